@@ -1,0 +1,1 @@
+"""Sealshelf: records in sealed boxes, and who could ever have opened them."""

@@ -1,0 +1,66 @@
+"""Choices, written as masks: bit k of a mask tells whether number k is chosen."""
+
+from sealshelf.openings import openable, opened, opens
+
+
+def chosen_in(mask):
+    """The ascending list of the numbers that are chosen."""
+    return [k for k in range(mask.bit_length()) if mask >> k & 1]
+
+
+def chosen_of(row, mask):
+    """The tuple of those elements of the row whose indexes are chosen."""
+    return tuple([row[k] for k in chosen_in(mask)])
+
+
+def least_of(row, holds):
+    """The ascending tuple of the least parts of an ascending row of whose masks holds is true.
+
+    What holds of a mask has to hold of each one that contains it.
+    """
+    true = []
+    least = []
+    for mask in range(1 << len(row)):
+        below = any([true[mask - (1 << k)] for k in chosen_in(mask)])
+        true.append(below or holds(mask))
+        if true[mask] and not below:
+            least.append(chosen_of(row, mask))
+    return tuple(sorted(least))
+
+
+class Choices:
+    """Choices of boxes for a way that leads from keys to a thing ([14])."""
+
+    def __init__(self, begin, boxes, thing):
+        self.begin = begin
+        self.boxes = boxes
+        self.thing = thing
+
+    def chosen(self, mask):
+        """The chosen boxes."""
+        return chosen_of(self.boxes, mask)
+
+    def dues(self, mask):
+        """The things that are due, in the order in which they became due."""
+        boxes = self.chosen(mask)
+        met = {key: True for key in self.begin}
+        wanted = {self.thing: True}
+        for thing, needed in boxes:
+            met[thing] = True
+            for key in needed:
+                wanted[key] = True
+        return [thing for thing in wanted if thing not in met]
+
+    def boxes_with(self, thing):
+        """The indexes of all boxes with this thing."""
+        return [b for b, box in enumerate(self.boxes) if box[0] == thing]
+
+    def reaches(self, mask):
+        """Whether the chosen boxes alone open the thing."""
+        return opens(self.begin, self.chosen(mask), self.thing)
+
+    def leaving(self, mask):
+        """The indexes of the boxes that leave what the chosen boxes open."""
+        found, texts = opened(self.begin, self.chosen(mask))
+        return [b for b in openable(found, self.boxes)
+                if self.boxes[b][0] not in found and self.boxes[b][0] not in texts]

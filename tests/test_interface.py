@@ -1,0 +1,62 @@
+"""The names, arguments and places that the interface lists."""
+
+import importlib
+import inspect
+import unittest
+
+FUNCTIONS = {
+    "kinds": {name: "thing" for name in ("is_name", "is_key", "is_text", "is_thing", "is_keys", "is_box", "is_boxes",
+                                         "is_shelf")},
+    "openings": {"opened": "keys, boxes", "opens": "keys, boxes, thing", "openable": "keys, boxes"},
+    "ways": {name: "keys, boxes, thing" for name in ("way_to", "shortest_way", "shortest_paper", "closed_without")},
+    "waychecker": {name: "keys, boxes, thing, paper" for name in ("lets_way", "lets_closed", "lets_shortest")},
+    "texts": {"thing_text": "thing", "keys_text": "keys", "box_text": "box", "boxes_text": "boxes",
+              "shelf_text": "shelf"},
+    "readings": {"read_thing": "text, *, row=0, field=0", "read_keys": "text, *, row=0, field=0",
+                 "read_box": "text, *, row=0, field=0", "read_boxes": "text, *, row=0, field=0", "read_shelf": "text"},
+    "shelfchecker": {"lets_shelf": "thing"},
+    "groups": {"opened_by": "shelf, group", "opens_together": "shelf, group, thing", "alone": "shelf, thing",
+               "least_groups": "shelf, thing", "least_locks": "shelf, thing"},
+    "leaks": {"least_leaks": "shelf, thing, *, known=()"},
+    "grouppapers": {"groups_paper": "shelf, thing"},
+}
+CLASSES = {
+    "errors": {"ShelfError": {}, "PaperError": {}, "DeedError": {}, "TextError": {},
+               "InvalidPaper": {"__init__": "self, word, at"}, "UnknownHolder": {"__init__": "self, holder"},
+               "InvalidStep": {"__init__": "self, step, word"}, "Locked": {"__init__": "self, thing"},
+               "NothingToUndo": {"__init__": "self, count"}, "InvalidMoment": {"__init__": "self, moment"},
+               "InvalidText": {"__init__": "self, row, field"}, "InvalidCommand": {"__init__": "self, text"}},
+    "rings": {"Ring": {"__init__": "self, *keys", "walk": "self", "within": "self, other", "opening": "self, boxes",
+                       "reading": "self, boxes", "__len__": "self", "__str__": "self", "__contains__": "self, thing"}},
+    "chests": {name: {"__init__": head, "content": "self", "opening": "self, keys"} for name, head in (
+        ("Chest", "self, boxes"), ("Without", "self, boxes, *, key"), ("Shifted", "self, boxes, *, by"),
+        ("Doubled", "self, boxes, *, key, extra"), ("ShiftedDouble", "self, boxes, *, by, key, extra"),
+        ("DoubledShift", "self, boxes, *, by, key, extra"))},
+}
+
+
+class Interface(unittest.TestCase):
+    def test_functions(self):
+        for module, functions in FUNCTIONS.items():
+            place = importlib.import_module("sealshelf." + module)
+            for name, head in functions.items():
+                function = getattr(place, name)
+                self.assertTrue(inspect.isfunction(function), name)
+                self.assertEqual(function.__module__, place.__name__)
+                self.assertEqual(str(inspect.signature(function)), f"({head})", name)
+
+    def test_classes(self):
+        for module, classes in CLASSES.items():
+            place = importlib.import_module("sealshelf." + module)
+            for name, methods in classes.items():
+                kind = getattr(place, name)
+                self.assertTrue(inspect.isclass(kind), name)
+                self.assertEqual(kind.__module__, place.__name__)
+                for method, head in methods.items():
+                    self.assertIn(method, vars(kind), name)
+                    self.assertEqual(str(inspect.signature(vars(kind)[method])), f"({head})", name + "." + method)
+
+    def test_members_is_a_property_of_ring(self):
+        from sealshelf.rings import Ring
+        self.assertIsInstance(vars(Ring)["members"], property)
+        self.assertTrue(inspect.isgeneratorfunction(vars(Ring)["walk"]))
