@@ -1,6 +1,6 @@
 """Choices, written as masks: bit k of a mask tells whether number k is chosen."""
 
-from sealshelf.openings import openable, opened, opens
+from sealshelf.openings import opens, things_opened
 
 
 def chosen_in(mask):
@@ -61,6 +61,6 @@ class Choices:
 
     def leaving(self, mask):
         """The indexes of the boxes that leave what the chosen boxes open."""
-        found, texts = opened(self.begin, self.chosen(mask))
-        return [b for b in openable(found, self.boxes)
-                if self.boxes[b][0] not in found and self.boxes[b][0] not in texts]
+        there = things_opened(self.begin, self.chosen(mask))
+        return [b for b, (thing, needed) in enumerate(self.boxes)
+                if thing not in there and all([key in there for key in needed])]

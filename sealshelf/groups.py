@@ -2,7 +2,6 @@
 
 from sealshelf.choosing import chosen_of, least_of
 from sealshelf.errors import UnknownHolder
-from sealshelf.kinds import is_name
 from sealshelf.openings import opened, opens
 
 
@@ -48,7 +47,7 @@ def check_group(shelf, group):
     """Raise UnknownHolder for the first value that is no holder or occurs before."""
     holders = holders_on(shelf)
     for k, value in enumerate(group):
-        if not is_name(value) or value not in holders or value in group[:k]:
+        if value not in holders or value in group[:k]:
             raise UnknownHolder(value)
 
 

@@ -1,8 +1,11 @@
 """The names, arguments and places that the interface lists."""
 
+import copy
 import importlib
 import inspect
 import unittest
+
+from tests.making import told
 
 FUNCTIONS = {
     "kinds": {name: "thing" for name in ("is_name", "is_key", "is_text", "is_thing", "is_keys", "is_box", "is_boxes",
@@ -55,6 +58,23 @@ class Interface(unittest.TestCase):
                 for method, head in methods.items():
                     self.assertIn(method, vars(kind), name)
                     self.assertEqual(str(inspect.signature(vars(kind)[method])), f"({head})", name + "." + method)
+
+    def test_any_value_is_left_as_it_is(self):
+        values = ([[0], [("memo", 0)]], ([0], [1]), (((0,), [()]), []), ([("ann", [1])], [(1, [2])]))
+        for module, name in (("kinds", "is_shelf"), ("kinds", "is_boxes"), ("kinds", "is_keys"),
+                             ("shelfchecker", "lets_shelf")):
+            for value in values:
+                before = copy.deepcopy(value)
+                told(getattr(importlib.import_module("sealshelf." + module), name), value)
+                self.assertEqual(value, before)
+        for name in FUNCTIONS["waychecker"]:
+            for value in values:
+                before = copy.deepcopy(value)
+                told(getattr(importlib.import_module("sealshelf.waychecker"), name), (0,), ((1, (0,)),), 1, value)
+                self.assertEqual(value, before)
+        group = ("ann", [1, [2]])
+        told(importlib.import_module("sealshelf.groups").opened_by, ((("ann", ()),), ()), group)
+        self.assertEqual(group, ("ann", [1, [2]]))
 
     def test_members_is_a_property_of_ring(self):
         from sealshelf.rings import Ring

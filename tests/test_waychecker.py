@@ -170,6 +170,24 @@ class Checkers(unittest.TestCase):
         changed = self.changed(tree, (0,), (True, tree[1][0][1]))
         self.raises("due", (0,), lets_shortest, (0,), boxes, MEMO, (way, changed))
 
+    def test_bool_for_a_key_below_equal_nodes(self):
+        # Boxes 0 and 1 can be chosen in either order, so there are two paths to the same boxes.
+        boxes = ((2, (9,)), (3, (9,)), (4, (2, 3)), (7, (2, 3)), (1, (4,)))
+        way = (0, 1, 2, 4)
+        right = (None, ((1, ((),)), (None, ((),))))
+        wrong = (None, ((True, ((),)), (None, ((),))))
+        self.assertEqual(right, wrong)
+        for second, end in ((right, None), (wrong, (1, 0, 0))):
+            paper = (way, (None, ((None, (right,)), (None, (second,)))))
+            told_of = told(lets_shortest, (9,), boxes, 1, paper)
+            self.assertEqual(told_of, 4 if end is None else ("InvalidPaper", "due", end))
+
+    def test_boxes_with_a_text_that_is_open_do_not_leave(self):
+        boxes = independent(4) + ((("a", 0), (0,)), (("a", 0), (0,)), (("a", 0), (3,)))
+        paper = shortest_paper((0,), boxes, MEMO)
+        self.assertEqual(shortest_error((0,), boxes, MEMO, paper), 6)
+        self.assertEqual(lets_shortest((0,), boxes, MEMO, paper), 6)
+
     def path_to_a_leaf(self, tree):
         """The path that takes the last branch at each node."""
         path = ()
