@@ -18,14 +18,39 @@ def least_of(row, holds):
 
     What holds of a mask has to hold of each one that contains it.
     """
-    true = []
-    least = []
-    for mask in range(1 << len(row)):
-        below = any([true[mask - (1 << k)] for k in chosen_in(mask)])
-        true.append(below or holds(mask))
-        if true[mask] and not below:
-            least.append(chosen_of(row, mask))
-    return tuple(sorted(least))
+    found = []
+    add_least(holds, 0, (1 << len(row)) - 1, found, {})
+    return tuple(sorted([chosen_of(row, mask) for mask in found]))
+
+
+def add_least(holds, inside, free, found, known):
+    """Add to found each least mask that contains inside, and otherwise has bits of free only."""
+    if not asked(holds, inside | free, known):
+        return
+    part = shrunk(holds, inside | free, free, known)
+    if shrunk(holds, part, inside, known) == part:
+        found.append(part)
+    # Each other least mask lacks some bit of this part: it is found where the
+    # first one that it lacks is left out.
+    for k in chosen_in(part & free):
+        free -= 1 << k
+        add_least(holds, inside, free, found, known)
+        inside |= 1 << k
+
+
+def shrunk(holds, mask, bits, known):
+    """The mask without those of the bits that it can lose one after the other while it holds."""
+    for k in chosen_in(bits):
+        if asked(holds, mask - (1 << k), known):
+            mask -= 1 << k
+    return mask
+
+
+def asked(holds, mask, known):
+    """Whether the mask holds; known has the answers that were given before."""
+    if mask not in known:
+        known[mask] = holds(mask)
+    return known[mask]
 
 
 class Choices:

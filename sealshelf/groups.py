@@ -44,10 +44,14 @@ def least_locks(shelf, thing):
 
 
 def check_group(shelf, group):
-    """Raise UnknownHolder for the first value that is no holder or occurs before."""
-    holders = holders_on(shelf)
+    """Raise UnknownHolder for the first value that is no holder of the shelf or occurs before."""
+    check_known(holders_on(shelf), group)
+
+
+def check_known(names, group):
+    """Raise UnknownHolder for the first value of a group that is none of the names or occurs before."""
     for k, value in enumerate(group):
-        if value not in holders or value in group[:k]:
+        if value not in names or value in group[:k]:
             raise UnknownHolder(value)
 
 

@@ -5,10 +5,7 @@ from sealshelf.kinds import is_key
 
 def opened(keys, boxes):
     """The pair (keys, texts) of all things that are opened."""
-    things = things_opened(keys, boxes)
-    found = [thing for thing in things if is_key(thing)]
-    texts = [thing for thing in things if not is_key(thing)]
-    return (tuple(sorted(found)), tuple(sorted(texts)))
+    return pair_of(things_opened(keys, boxes))
 
 
 def opens(keys, boxes, thing):
@@ -48,6 +45,13 @@ def opening_order(keys, boxes):
                 order.append(b)
         at += 1
     return order
+
+
+def pair_of(things):
+    """The pair (keys, texts) of ascending tuples that a dict of things makes."""
+    keys = [thing for thing in things if is_key(thing)]
+    texts = [thing for thing in things if not is_key(thing)]
+    return (tuple(sorted(keys)), tuple(sorted(texts)))
 
 
 def boxes_by_key(boxes):

@@ -27,6 +27,15 @@ def check_way(keys, boxes, thing, way):
         raise InvalidPaper("lead", -1)
 
 
+def is_way(keys, boxes, thing, paper):
+    """Whether the paper is a way from keys that leads to the thing."""
+    try:
+        lets_way(keys, boxes, thing, paper)
+    except InvalidPaper:
+        return False
+    return True
+
+
 def lets_closed(keys, boxes, thing, paper):
     """How many things are in the paper, if it is a closed set for keys and boxes without the thing."""
     if not is_pair(paper) or not is_keys(paper[0]) or not is_texts(paper[1]):
@@ -41,6 +50,15 @@ def lets_closed(keys, boxes, thing, paper):
     if thing in there:
         raise InvalidPaper("thing", -1)
     return len(there)
+
+
+def is_closed(keys, boxes, thing, paper):
+    """Whether the paper is a closed set for keys and boxes without the thing."""
+    try:
+        lets_closed(keys, boxes, thing, paper)
+    except InvalidPaper:
+        return False
+    return True
 
 
 def lets_shortest(keys, boxes, thing, paper):

@@ -14,6 +14,12 @@ def way_to(keys, boxes, thing):
     return tuple(needed_of(order, boxes, thing))
 
 
+def way_among(keys, boxes, numbers, thing):
+    """Any way from keys to the thing by the boxes of these numbers alone, or None."""
+    way = way_to(keys, [boxes[b] for b in numbers], thing)
+    return None if way is None else tuple([numbers[k] for k in way])
+
+
 def needed_of(order, boxes, thing):
     """The boxes of an opening order that the thing needs, in this order."""
     wanted = {thing: True}

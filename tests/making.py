@@ -64,3 +64,16 @@ def told(call, *arguments, **named):
         return call(*arguments, **named)
     except ValueError as error:
         return (type(error).__name__, *vars(error).values())
+
+
+def some_demands(seed, shelf, most=4):
+    """Demands of a shelf, perhaps none, equal ones, and some that are met by no boxes."""
+    rng = random.Random(seed)
+    holders = tuple(holder for holder, _ in shelf[0])
+    demands = []
+    for _ in range(rng.randrange(most + 1)):
+        some = tuple(sorted(rng.sample(holders, rng.randrange(len(holders) + 1))))
+        demands.append((some, rng.choice((("memo", 0), ("memo", 1), 0, 1, 2, 3))))
+    if demands and rng.random() < 0.2:
+        demands.append(demands[0])
+    return tuple(demands)

@@ -22,6 +22,16 @@ FUNCTIONS = {
                "least_groups": "shelf, thing", "least_locks": "shelf, thing"},
     "leaks": {"least_leaks": "shelf, thing, *, known=()"},
     "grouppapers": {"groups_paper": "shelf, thing"},
+    "groupchecker": {"lets_groups": "shelf, thing, paper"},
+    "keeping": {"meets": "shelf, demands, kept", "needless": "shelf, demands", "least_keeps": "shelf, demands",
+                "fewest_kept": "shelf, demands"},
+    "keeppapers": {"keep_paper": "shelf, demands"},
+    "keepchecker": {"lets_keep": "shelf, demands, paper"},
+    "historychecker": {"lets_history": "thing", "is_history": "thing"},
+    "lyings": {"boxes_put": "history", "lying": "history, moment", "hand_at": "history, group, moment",
+               "holders_of": "history"},
+    "havings": {"had": "history, group, moment, word", "first_moment": "history, group, thing, word",
+                "gained": "history, group, word", "apart": "history, group, moment, since"},
 }
 CLASSES = {
     "errors": {"ShelfError": {}, "PaperError": {}, "DeedError": {}, "TextError": {},
@@ -60,21 +70,20 @@ class Interface(unittest.TestCase):
                     self.assertEqual(str(inspect.signature(vars(kind)[method])), f"({head})", name + "." + method)
 
     def test_any_value_is_left_as_it_is(self):
-        values = ([[0], [("memo", 0)]], ([0], [1]), (((0,), [()]), []), ([("ann", [1])], [(1, [2])]))
-        for module, name in (("kinds", "is_shelf"), ("kinds", "is_boxes"), ("kinds", "is_keys"),
-                             ("shelfchecker", "lets_shelf")):
+        hands, boxes = (("ann", (0,)),), ((1, (0,)),)
+        calls = [("kinds", name, ()) for name in FUNCTIONS["kinds"]] + [("shelfchecker", "lets_shelf", ())]
+        calls += [("waychecker", name, ((0,), boxes, 1)) for name in FUNCTIONS["waychecker"]]
+        calls += [("groupchecker", "lets_groups", ((hands, boxes), 1)),
+                  ("keepchecker", "lets_keep", ((hands, boxes), ((("ann",), 1),))),
+                  ("groups", "opened_by", ((hands, boxes),)), ("historychecker", "lets_history", ()),
+                  ("historychecker", "is_history", ()), ("lyings", "lying", ((),)), ("lyings", "hand_at", ((), ()))]
+        values = ([[0], [("memo", 0)]], ([0], [1]), (((0,), [()]), []), ([("ann", [1])], [(1, [2])]), (["put", (1, [0])],),
+                  ("ann", [1, [2]]), (([0], ((0,),), None),))
+        for module, name, arguments in calls:
             for value in values:
                 before = copy.deepcopy(value)
-                told(getattr(importlib.import_module("sealshelf." + module), name), value)
+                told(getattr(importlib.import_module("sealshelf." + module), name), *arguments, value)
                 self.assertEqual(value, before)
-        for name in FUNCTIONS["waychecker"]:
-            for value in values:
-                before = copy.deepcopy(value)
-                told(getattr(importlib.import_module("sealshelf.waychecker"), name), (0,), ((1, (0,)),), 1, value)
-                self.assertEqual(value, before)
-        group = ("ann", [1, [2]])
-        told(importlib.import_module("sealshelf.groups").opened_by, ((("ann", ()),), ()), group)
-        self.assertEqual(group, ("ann", [1, [2]]))
 
     def test_members_is_a_property_of_ring(self):
         from sealshelf.rings import Ring

@@ -16,7 +16,7 @@ FOLDER = os.path.join(os.path.dirname(os.path.dirname(os.path.abspath(__file__))
 FILES = sorted(name for name in os.listdir(FOLDER) if name != "__pycache__")
 
 BUILTINS = set("len range enumerate zip min max sum abs sorted reversed int str bool list tuple dict set isinstance ord repr "
-               "any all divmod super property ValueError".split())
+               "any all divmod super property ValueError TypeError".split())
 METHODS = set("append clear copy count endswith extend find get index insert isalnum isalpha isdigit islower isspace "
               "isupper items join keys ljust lower lstrip partition pop remove replace reverse rfind rjust rpartition "
               "rsplit rstrip setdefault split splitlines startswith strip update upper values zfill bit_length".split())
@@ -33,8 +33,8 @@ NO_WORDS = set("type typing typing_extensions enum Enum IntEnum StrEnum Flag Int
                "_wall _WallAttr Meta".split())
 NO_ATTRIBUTES = set("items keys values pop update append clear extend insert remove reverse setdefault sort args encode "
                     "decode hex fromhex format mro format_map".split())
-NO_NODES = (ast.GeneratorExp, ast.Lambda, ast.Global, ast.Nonlocal, ast.AsyncFunctionDef, ast.Await, ast.Try, ast.With,
-            ast.Match, ast.NamedExpr, ast.Delete, ast.AnnAssign, ast.Div, ast.Pow, ast.Import, ast.Assert)
+NO_NODES = (ast.GeneratorExp, ast.Lambda, ast.Global, ast.Nonlocal, ast.AsyncFunctionDef, ast.Await, ast.With,
+            ast.Match, ast.NamedExpr, ast.AnnAssign, ast.Div, ast.Pow, ast.Import, ast.Assert)
 AT_ONCE = ("list", "tuple", "dict", "sorted", "sum", "any", "all", "enumerate", "zip", "min", "max")
 
 
@@ -140,6 +140,13 @@ class Language(unittest.TestCase):
     def test_statements_and_expressions(self):
         for at, node in self.nodes(*NO_NODES):
             self.fail(f"{type(node).__name__} {at}")
+        for at, node in self.nodes(ast.Delete):
+            self.assertTrue(all(isinstance(target, ast.Subscript) for target in node.targets), "L6 " + at)
+        for at, node in self.nodes(ast.Try):
+            self.assertFalse(node.finalbody or node.orelse, "L6 " + at)
+            for handler in node.handlers:
+                self.assertIn(handler.type.id, self.classes, "L19 " + at)
+                self.assertIsNone(handler.name, "L19 " + at)
         for at, node in self.nodes(ast.Constant):
             self.assertNotIsInstance(node.value, (float, complex, bytes), "L7 " + at)
         for at, node in self.nodes(ast.Compare):
