@@ -32,7 +32,8 @@ def add_least(holds, inside, free, found, known):
         found.append(part)
     # Each other least mask lacks some bit of this part: it is found where the
     # first one that it lacks is left out.
-    for k in chosen_in(part & free):
+    lacking = chosen_in(part & free)
+    for k in lacking:
         free -= 1 << k
         add_least(holds, inside, free, found, known)
         inside |= 1 << k

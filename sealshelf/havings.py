@@ -1,6 +1,7 @@
 """What a group has at a moment of a history, in four ways, and since when ([38], [39])."""
 
-from sealshelf.lyings import ShelfNow, boxes_put, check_members, check_moment, hand_at, lying
+from sealshelf.kinds import is_thing
+from sealshelf.lyings import ShelfNow, boxes_put, check_members, check_moment, hand_at, numbers_there
 from sealshelf.openings import opened, pair_of
 
 
@@ -14,22 +15,26 @@ def had(history, group, moment, word):
     boxes = boxes_put(history)
     if word == "logged":
         return pair_of(logged_things(hand, history[:moment], group, boxes))
-    if word == "now":
-        return opened(hand, [boxes[b] for b in lying(history, moment)])
-    return opened(hand, boxes_put(history[:moment]))
+    return opened(hand, [boxes[b] for b in numbers_there(history, moment, word)])
+
+
+def has(history, group, moment, thing, word):
+    """Whether the group has any value at the moment in this way."""
+    keys, texts = had(history, group, moment, word)
+    # The kind comes first, as True would be found where 1 is.
+    return is_thing(thing) and (thing in keys or thing in texts)
 
 
 def first_moment(history, group, thing, word):
     """The first moment at which the group has the thing in this way, or None."""
-    for moment, one in gained(history, group, word):
-        if one == thing:
+    for moment in range(len(history) + 1):
+        if has(history, group, moment, thing, word):
             return moment
     return None
 
 
 def gained(history, group, word):
     """The pairs (moment, thing) of all that the group has at some moment, with the first such moment."""
-    check_members(history, group)
     seen = {}
     for moment in range(len(history) + 1):
         keys, texts = had(history, group, moment, word)

@@ -39,7 +39,7 @@ def tree_behind(aims, boxes, cuts, chosen, left):
     """
     if left == 0:
         return None
-    cut = [cut for cut in cuts if not any([b in chosen for b in cut])][0]
+    cut = [one for one in cuts if not any([b in chosen for b in one])][0]
     others = [box for b, box in enumerate(boxes) if b not in cut]
     d = unmet(aims, others)
     branches = [tree_behind(aims, boxes, cuts, chosen + (b,), left - 1) for b in cut]

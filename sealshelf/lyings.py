@@ -18,6 +18,13 @@ def lying(history, moment):
     return tuple([b for b in range(len(boxes_put(deeds))) if b not in taken])
 
 
+def numbers_there(history, moment, word):
+    """The ascending tuple of the numbers of the puts from which the way that word names takes boxes."""
+    if word == "copied":
+        return tuple(range(len(boxes_put(history[:moment]))))
+    return lying(history, moment)
+
+
 def hand_at(history, group, moment):
     """The ascending tuple of the keys in the hand of the group at the moment."""
     check_members(history, group)

@@ -2,7 +2,7 @@
 
 import random
 
-from tests.naive import closure, goes_up, is_name, is_number, is_row, is_thing, pair
+from tests.naive import closure, goes_up, is_name, is_number, is_row, is_text, is_thing, pair, parts_of
 
 MEMO = ("memo", 0)
 DAYS = (("hand", "ann", 0), ("put", (1, (0,))), ("hand", "bob", 2), ("put", (MEMO, (1, 2))), ("take", 0),
@@ -150,5 +150,47 @@ def pairs(history, group, moment, word):
 
 def groups_of(history):
     """All groups of a history, with and without the world."""
-    from tests.naive import parts_of
     return parts_of(sorted(holders(history) + ["world"]))
+
+
+def timed_error(history, group, moment, thing, word, value):
+    """The first error of a timed way as (word, at), or the number of its steps."""
+    def step(one):
+        return type(one) is tuple and len(one) == 2 and is_number(one[0]) and is_number(one[1])
+
+    if not is_row(value, step if word == "remembered" else is_number):
+        return ("shape", -1)
+    steps = value if word == "remembered" else [(moment, b) for b in value]
+    things = set()
+    for k, (t, b) in enumerate(steps):
+        if not (steps[k - 1][0] if k else 0) <= t <= moment:
+            return ("moment", k)
+        if b not in (range(len(puts(history[:t]))) if word == "copied" else there(history, t)):
+            return ("lies", k)
+        if not set(puts(history)[b][1]) <= things | hand(history, group, t):
+            return ("keys", k)
+        things.add(puts(history)[b][0])
+    return len(steps) if thing in things | hand(history, group, moment) else ("last", -1)
+
+
+def table_error(history, group, moment, thing, value):
+    """The first error of a table as (word, at), or the two numbers of its last row in a list."""
+    def row(one):
+        return type(one) is tuple and len(one) == 2 and is_row(one[0], is_number) and is_row(one[1], is_text) and goes_up(
+            one[0]) and goes_up(one[1])
+
+    if not is_row(value, row):
+        return ("shape", -1)
+    if len(value) != moment + 1:
+        return ("many", -1)
+    rows = [set(keys) | set(texts) for keys, texts in value]
+    for t, things in enumerate(rows):
+        if t and not rows[t - 1] <= things:
+            return ("before", t)
+        if not hand(history, group, t) <= things:
+            return ("hand", t)
+        for b in there(history, t):
+            inside, needed = puts(history)[b]
+            if set(needed) <= things and inside not in things:
+                return ("box", (t, b))
+    return ("there", -1) if thing in rows[-1] else [len(value[-1][0]), len(value[-1][1])]

@@ -32,6 +32,15 @@ FUNCTIONS = {
                "holders_of": "history"},
     "havings": {"had": "history, group, moment, word", "first_moment": "history, group, thing, word",
                 "gained": "history, group, word", "apart": "history, group, moment, since"},
+    "timedways": {"timed_way": "history, group, moment, thing, word", "table_without": "history, group, moment, thing"},
+    "timedchecker": {"lets_timed": "history, group, moment, thing, word, paper",
+                     "lets_table": "history, group, moment, thing, paper"},
+    "takes": {"last_take": "history, group, thing, b", "keeping_off": "history, group, thing",
+              "least_offs": "history, group, thing, *, most=2"},
+    "logs": {"unlogged": "history, holder", "suspects": "history, thing"},
+    "vaultchecker": {"lets_vault": "thing"},
+    "vaultfacts": {"outside": "vault, holders", "is_kept": "vault, key, holders", "is_good": "vault, record, side",
+                   "text_readers": "vault, text", "exposed": "vault"},
 }
 CLASSES = {
     "errors": {"ShelfError": {}, "PaperError": {}, "DeedError": {}, "TextError": {},
@@ -45,6 +54,9 @@ CLASSES = {
         ("Chest", "self, boxes"), ("Without", "self, boxes, *, key"), ("Shifted", "self, boxes, *, by"),
         ("Doubled", "self, boxes, *, key, extra"), ("ShiftedDouble", "self, boxes, *, by, key, extra"),
         ("DoubledShift", "self, boxes, *, by, key, extra"))},
+    "chronicles": {"Chronicle": {"__init__": "self, *deeds", "walk": "self", "with_deed": "self, deed",
+                                 "knows": "self, thing", "until": "self, moment", "who": "self, thing, word",
+                                 "__len__": "self", "__getitem__": "self, moment", "__eq__": "self, other"}},
 }
 
 
@@ -76,9 +88,13 @@ class Interface(unittest.TestCase):
         calls += [("groupchecker", "lets_groups", ((hands, boxes), 1)),
                   ("keepchecker", "lets_keep", ((hands, boxes), ((("ann",), 1),))),
                   ("groups", "opened_by", ((hands, boxes),)), ("historychecker", "lets_history", ()),
-                  ("historychecker", "is_history", ()), ("lyings", "lying", ((),)), ("lyings", "hand_at", ((), ()))]
+                  ("historychecker", "is_history", ()), ("lyings", "lying", ((),)), ("lyings", "hand_at", ((), ())),
+                  ("timedchecker", "lets_timed", ((), (), 0, 1, "now")), ("timedchecker", "lets_table", ((), (), 0, 1)),
+                  ("takes", "last_take", ((), (), 0)), ("logs", "unlogged", ((),)), ("chronicles", "Chronicle", ()),
+                  ("vaultchecker", "lets_vault", ()), ("vaultfacts", "text_readers", ((0, (), (), ()),))]
         values = ([[0], [("memo", 0)]], ([0], [1]), (((0,), [()]), []), ([("ann", [1])], [(1, [2])]), (["put", (1, [0])],),
-                  ("ann", [1, [2]]), (([0], ((0,),), None),))
+                  ("ann", [1, [2]]), (([0], ((0,),), None),), (0, [("ann", 0)], [], []),
+                  (0, (), (["memo", ((["ann"], None),), ()],), ()))
         for module, name, arguments in calls:
             for value in values:
                 before = copy.deepcopy(value)
