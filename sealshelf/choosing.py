@@ -13,6 +13,11 @@ def chosen_of(row, mask):
     return tuple([row[k] for k in chosen_in(mask)])
 
 
+def is_part(some, others):
+    """Whether some are fewer than the others, and all of them are among these."""
+    return len(some) < len(others) and all([one in others for one in some])
+
+
 def least_of(row, holds):
     """The ascending tuple of the least parts of an ascending row of whose masks holds is true.
 
@@ -58,18 +63,18 @@ class Choices:
     """Choices of boxes for a way that leads from keys to a thing ([14])."""
 
     def __init__(self, begin, boxes, thing):
-        self.begin = begin
-        self.boxes = boxes
+        self.given = begin
+        self.offered = boxes
         self.thing = thing
 
     def chosen(self, mask):
         """The chosen boxes."""
-        return chosen_of(self.boxes, mask)
+        return chosen_of(self.offered, mask)
 
     def dues(self, mask):
         """The things that are due, in the order in which they became due."""
         boxes = self.chosen(mask)
-        met = {key: True for key in self.begin}
+        met = {key: True for key in self.given}
         wanted = {self.thing: True}
         for thing, needed in boxes:
             met[thing] = True
@@ -79,14 +84,14 @@ class Choices:
 
     def boxes_with(self, thing):
         """The indexes of all boxes with this thing."""
-        return [b for b, box in enumerate(self.boxes) if box[0] == thing]
+        return [b for b, box in enumerate(self.offered) if box[0] == thing]
 
     def reaches(self, mask):
         """Whether the chosen boxes alone open the thing."""
-        return opens(self.begin, self.chosen(mask), self.thing)
+        return opens(self.given, self.chosen(mask), self.thing)
 
     def leaving(self, mask):
         """The indexes of the boxes that leave what the chosen boxes open."""
-        there = things_opened(self.begin, self.chosen(mask))
-        return [b for b, (thing, needed) in enumerate(self.boxes)
+        there = things_opened(self.given, self.chosen(mask))
+        return [b for b, (thing, needed) in enumerate(self.offered)
                 if thing not in there and all([key in there for key in needed])]

@@ -102,7 +102,7 @@ class Memory:
         if deed[0] == "leak" and "world" in self.group:
             self.gain(deed[1], None, shelf)
         if deed[0] == "put":
-            b = len(shelf.boxes) - 1
+            b = len(shelf.puts) - 1
             if b in shelf.there and self.has_all(deed[1][1]):
                 self.gain(deed[1][0], b, shelf)
 
@@ -115,8 +115,8 @@ class Memory:
             at += 1
             if got not in self.steps:
                 self.steps[got] = (shelf.moment, by)
-                opening = [c for c in shelf.boxes_with(got) if self.has_all(shelf.boxes[c][1])]
-                queue.extend([(shelf.boxes[c][0], c) for c in opening])
+                opening = [c for c in shelf.boxes_with(got) if self.has_all(shelf.puts[c][1])]
+                queue.extend([(shelf.puts[c][0], c) for c in opening])
 
     def has_all(self, keys):
         """Whether all these keys are remembered."""

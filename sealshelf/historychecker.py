@@ -18,7 +18,7 @@ def lets_history(thing):
         shelf.follow(deed)
         for memory in memories.values():
             memory.follow(deed, shelf)
-    return len(shelf.boxes)
+    return len(shelf.puts)
 
 
 def is_history(thing):
@@ -51,5 +51,5 @@ def check_deed(deed, k, shelf, memories):
         raise InvalidPaper("holder", k)
     if word in ("take", "open") and deed[-1] not in shelf.there:
         raise InvalidPaper("lies", k)
-    if word == "open" and not memories[deed[1]].has_all(shelf.boxes[deed[2]][1]):
+    if word == "open" and not memories[deed[1]].has_all(shelf.puts[deed[2]][1]):
         raise InvalidPaper("keys", k)

@@ -62,7 +62,7 @@ class KeepCheck:
 
     def __init__(self, aims, boxes, many):
         self.aims = aims
-        self.boxes = boxes
+        self.offered = boxes
         self.many = many
 
     def look(self, tree, chosen, path):
@@ -81,10 +81,10 @@ class KeepCheck:
         if d >= len(self.aims):
             raise InvalidPaper("demand", path)
         keys, thing = self.aims[d]
-        if not is_closed(keys, [self.boxes[b] for b in chosen], thing, closed):
+        if not is_closed(keys, [self.offered[b] for b in chosen], thing, closed):
             raise InvalidPaper("closed", path)
         there = closed[0] + closed[1]
-        numbers = [b for b in openable(closed[0], self.boxes) if self.boxes[b][0] not in there]
+        numbers = [b for b in openable(closed[0], self.offered) if self.offered[b][0] not in there]
         if len(numbers) != len(branches):
             raise InvalidPaper("branches", path)
         return numbers

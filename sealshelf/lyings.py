@@ -60,7 +60,7 @@ class ShelfNow:
     def __init__(self, off=()):
         self.off = off
         self.moment = 0
-        self.boxes = []
+        self.puts = []
         self.there = {}
         self.waiting = {}
 
@@ -77,8 +77,8 @@ class ShelfNow:
 
     def lay(self, box):
         """Put a box there, and note it for each of its keys."""
-        b = len(self.boxes)
-        self.boxes.append(box)
+        b = len(self.puts)
+        self.puts.append(box)
         self.there[b] = True
         for key in box[1]:
             self.waiting.setdefault(key, {})[b] = True
@@ -87,7 +87,7 @@ class ShelfNow:
         """Take put b away, if it lies there."""
         if b in self.there:
             del self.there[b]
-            for key in self.boxes[b][1]:
+            for key in self.puts[b][1]:
                 del self.waiting[key][b]
 
     def boxes_with(self, key):

@@ -1,5 +1,6 @@
 """Which puts keep a thing from being remembered when they are taken off, and until when ([43], [44])."""
 
+from sealshelf.choosing import is_part
 from sealshelf.errors import InvalidStep
 from sealshelf.havings import memory_at
 from sealshelf.kinds import is_number
@@ -52,11 +53,6 @@ def offs_with(history, group, thing, off, left):
         for _, b in way:
             found.extend(offs_with(history, group, thing, tuple(sorted(off + (b,))), left - 1))
     return found
-
-
-def is_part(some, others):
-    """Whether some are fewer than the others, and all of them are among these."""
-    return len(some) < len(others) and all([b in others for b in some])
 
 
 def steps_without(history, group, thing, off):

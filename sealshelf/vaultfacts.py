@@ -20,7 +20,8 @@ def is_kept(vault, key, holders):
 
 def is_good(vault, record, side):
     """Whether the lead of a side of a record is kept for its readers, who all have it now."""
-    readers, lead = [sides[side] for name, sides, _ in vault[2] if name == record][0]
+    _, sides, _ = record_in(vault, record)
+    readers, lead = sides[side]
     if lead is None or not is_kept(vault, lead, readers):
         return False
     history = vault[3]
@@ -47,6 +48,14 @@ def exposed(vault):
 def holders_in(vault):
     """The list of the holders of a vault, ascending."""
     return [name for name, _ in vault[1]]
+
+
+def record_in(vault, record):
+    """The record of a vault with this name, None if any value is no such name."""
+    for one in vault[2]:
+        if one[0] == record:
+            return one
+    return None
 
 
 def outsiders(vault, holders):

@@ -9,6 +9,8 @@ MEMO = ("memo", 0)
 VAULT = (4, (("ann", 0), ("bob", 1), ("cy", 2)), (("memo", ((("ann", "bob"), 3),), ((("ann", "bob"),),)),),
          (("hand", "ann", 0), ("hand", "bob", 1), ("hand", "cy", 2), ("put", (3, (0,))), ("put", (3, (1,))),
           ("put", (MEMO, (3,)))))
+TWO_SIDES = (6, VAULT[1], (("memo", ((("ann", "bob"), 3), (("bob", "cy"), 4)), ((("ann", "bob"), ("bob", "cy")),)),),
+             VAULT[3][:5] + (("put", (4, (1,))), ("put", (4, (2,))), ("put", (MEMO, (3, 4)))))
 
 
 def leaked(vault, key):

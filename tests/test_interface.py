@@ -6,6 +6,7 @@ import inspect
 import unittest
 
 from tests.making import told
+from tests.naivevaults import VAULT
 
 FUNCTIONS = {
     "kinds": {name: "thing" for name in ("is_name", "is_key", "is_text", "is_thing", "is_keys", "is_box", "is_boxes",
@@ -41,7 +42,17 @@ FUNCTIONS = {
     "vaultchecker": {"lets_vault": "thing"},
     "vaultfacts": {"outside": "vault, holders", "is_kept": "vault, key, holders", "is_good": "vault, record, side",
                    "text_readers": "vault, text", "exposed": "vault"},
+    "vaultsteps": {"fresh_vault": "", "came": "vault, holder", "begun": "vault, record, *sides",
+                   "went": "vault, record, side, holder", "leaked": "vault, key", "renewed": "vault, holder",
+                   "looked": "vault, holder, b", "taken": "vault, b", "written": "vault, record"},
+    "soundness": {name: "vault" for name in ("is_open", "is_shut", "is_sound", "sound_paper")},
+    "soundchecker": {"lets_sound": "vault, thing"},
+    "goals": {"are_goals": "vault, thing", "may_stay": "vault, goal", "allowed_ways": "vault, goals"},
+    "planchecker": {"lets_plan": "vault, goals, thing"},
+    "plans": {"fewest_turn": "vault, goals", "turn_paper": "vault, goals"},
+    "turnstops": {"turned": "vault, goals, plan", "stops_of": "vault, goals, plan"},
 }
+BOTH = (("memo", 0, ("ann", "bob")),)
 CLASSES = {
     "errors": {"ShelfError": {}, "PaperError": {}, "DeedError": {}, "TextError": {},
                "InvalidPaper": {"__init__": "self, word, at"}, "UnknownHolder": {"__init__": "self, holder"},
@@ -91,10 +102,17 @@ class Interface(unittest.TestCase):
                   ("historychecker", "is_history", ()), ("lyings", "lying", ((),)), ("lyings", "hand_at", ((), ())),
                   ("timedchecker", "lets_timed", ((), (), 0, 1, "now")), ("timedchecker", "lets_table", ((), (), 0, 1)),
                   ("takes", "last_take", ((), (), 0)), ("logs", "unlogged", ((),)), ("chronicles", "Chronicle", ()),
-                  ("vaultchecker", "lets_vault", ()), ("vaultfacts", "text_readers", ((0, (), (), ()),))]
+                  ("vaultchecker", "lets_vault", ()), ("vaultfacts", "text_readers", (VAULT,)),
+                  ("vaultsteps", "came", (VAULT,)), ("vaultsteps", "begun", (VAULT, "a")),
+                  ("vaultsteps", "went", (VAULT, "memo", 0)), ("vaultsteps", "leaked", (VAULT,)),
+                  ("vaultsteps", "looked", (VAULT, "ann")), ("vaultsteps", "taken", (VAULT,)),
+                  ("vaultsteps", "written", (VAULT,)), ("soundchecker", "lets_sound", (VAULT,)),
+                  ("goals", "are_goals", (VAULT,)), ("planchecker", "lets_plan", (VAULT, BOTH)),
+                  ("turnstops", "turned", (VAULT, BOTH))]
         values = ([[0], [("memo", 0)]], ([0], [1]), (((0,), [()]), []), ([("ann", [1])], [(1, [2])]), (["put", (1, [0])],),
                   ("ann", [1, [2]]), (([0], ((0,),), None),), (0, [("ann", 0)], [], []),
-                  (0, (), (["memo", ((["ann"], None),), ()],), ()))
+                  (0, (), (["memo", ((["ann"], None),), ()],), ()), (["memo", 0, ["ann", "bob"]],), (["on", [3]],),
+                  (([0, 2], [1, 2]), ([(2,), ()],)))
         for module, name, arguments in calls:
             for value in values:
                 before = copy.deepcopy(value)

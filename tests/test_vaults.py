@@ -8,13 +8,12 @@ from sealshelf.vaultfacts import exposed, is_good, is_kept, outside, text_reader
 from tests import naivevaults
 from tests.making import WRONG, deep, told, variants
 from tests.naive import parts_of
-from tests.naivevaults import MEMO, VAULT, leaked, outside_pair, some_vault, texts_of, vault_error
+from tests.naivevaults import MEMO, TWO_SIDES, VAULT, leaked, outside_pair, some_vault, texts_of, vault_error
 
 AFTER, HOLDERS, RECORDS, HISTORY = VAULT
 SIDES = RECORDS[0][1]
 TEXTS = RECORDS[0][2]
-TWO = (6, HOLDERS, (("memo", ((("ann", "bob"), 3), (("bob", "cy"), 4)), ((("ann", "bob"), ("bob", "cy")),)),),
-       HISTORY[:5] + (("put", (4, (1,))), ("put", (4, (2,))), ("put", (MEMO, (3, 4)))))
+TWO = TWO_SIDES
 
 
 class VaultChecker(unittest.TestCase):
