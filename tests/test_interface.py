@@ -51,6 +51,11 @@ FUNCTIONS = {
     "planchecker": {"lets_plan": "vault, goals, thing"},
     "plans": {"fewest_turn": "vault, goals", "turn_paper": "vault, goals"},
     "turnstops": {"turned": "vault, goals, plan", "stops_of": "vault, goals, plan"},
+    "turnchecker": {"lets_turn": "vault, goals, thing"},
+    "livesteps": {"is_step": "thing"},
+    "replaying": {"is_log": "thing", "replayed": "log"},
+    "steprows": {"step_row": "step", "log_rows": "log"},
+    "rowreadings": {"read_step": "text, *, row=0", "read_log": "rows"},
 }
 BOTH = (("memo", 0, ("ann", "bob")),)
 CLASSES = {
@@ -68,6 +73,17 @@ CLASSES = {
     "chronicles": {"Chronicle": {"__init__": "self, *deeds", "walk": "self", "with_deed": "self, deed",
                                  "knows": "self, thing", "until": "self, moment", "who": "self, thing, word",
                                  "__len__": "self", "__getitem__": "self, moment", "__eq__": "self, other"}},
+    "livevaults": {"Vault": {
+        **{name: "self" for name in ("__init__", "due_goals", "holders", "records", "__len__", "shelf", "lying", "needless",
+                                     "room", "boxes", "exposed", "__str__", "undo", "log", "counts", "table")},
+        **{name: "self, step" for name in ("__call__", "go", "barred")},
+        **{name: "self, record" for name in ("__getitem__", "__contains__", "leads", "newest", "write")},
+        **{name: "self, holder" for name in ("come", "renew", "own_key")}, "begin": "self, record, *sides",
+        "leave": "self, record, side, holder", "leak": "self, key", "look": "self, holder, b", "take": "self, b",
+        "turn": "self, goals, plan", "stop": "self, goals, plan, many", "turn_for": "self, goals",
+        "is_good": "self, record, side", "had": "self, group, word", "who_had": "self, thing, word", "__eq__": "self, other",
+        "__ne__": "self, other", "do_all": "self, *steps, keep=False", "tried": "self, *steps"}},
+    "desk": {"Desk": {"__init__": "self", "say": "self, text", "counts": "self"}},
 }
 
 
@@ -108,7 +124,8 @@ class Interface(unittest.TestCase):
                   ("vaultsteps", "looked", (VAULT, "ann")), ("vaultsteps", "taken", (VAULT,)),
                   ("vaultsteps", "written", (VAULT,)), ("soundchecker", "lets_sound", (VAULT,)),
                   ("goals", "are_goals", (VAULT,)), ("planchecker", "lets_plan", (VAULT, BOTH)),
-                  ("turnstops", "turned", (VAULT, BOTH))]
+                  ("turnstops", "turned", (VAULT, BOTH)), ("turnchecker", "lets_turn", (VAULT, BOTH)),
+                  ("livesteps", "is_step", ()), ("replaying", "is_log", ()), ("replaying", "replayed", ())]
         values = ([[0], [("memo", 0)]], ([0], [1]), (((0,), [()]), []), ([("ann", [1])], [(1, [2])]), (["put", (1, [0])],),
                   ("ann", [1, [2]]), (([0], ((0,),), None),), (0, [("ann", 0)], [], []),
                   (0, (), (["memo", ((["ann"], None),), ()],), ()), (["memo", 0, ["ann", "bob"]],), (["on", [3]],),
@@ -117,6 +134,24 @@ class Interface(unittest.TestCase):
             for value in values:
                 before = copy.deepcopy(value)
                 told(getattr(importlib.import_module("sealshelf." + module), name), *arguments, value)
+                self.assertEqual(value, before)
+
+    def test_present_is_a_property_and_read_a_class_method_of_vault(self):
+        from sealshelf.livevaults import Vault
+        self.assertIsInstance(vars(Vault)["present"], property)
+        self.assertIsInstance(vars(Vault)["read"], classmethod)
+        self.assertEqual(str(inspect.signature(Vault.read)), "(text)")
+
+    def test_a_vault_leaves_any_value_as_it_is(self):
+        from sealshelf.livevaults import Vault
+        vault = Vault()
+        vault.come("ann")
+        for value in ([0], ["come", "ann"], ("begin", "a", (["ann"],)), ("turn", [], []), [[("memo", 0, ["ann"])]]):
+            before = copy.deepcopy(value)
+            for call in (vault, vault.go, vault.barred, vault.tried, vault.do_all, vault.turn_for, vault.own_key, vault.leads,
+                         lambda one: vault.begin(one, one), lambda one: vault.turn(one, one), lambda one: vault.who_had(one, "now"),
+                         lambda one: vault[one], lambda one: one in vault, lambda one: one == vault):
+                told(call, value)
                 self.assertEqual(value, before)
 
     def test_members_is_a_property_of_ring(self):

@@ -16,7 +16,7 @@ FOLDER = os.path.join(os.path.dirname(os.path.dirname(os.path.abspath(__file__))
 FILES = sorted(name for name in os.listdir(FOLDER) if name != "__pycache__")
 
 BUILTINS = set("len range enumerate zip min max sum abs sorted reversed int str bool list tuple dict set isinstance ord repr "
-               "any all divmod super property ValueError TypeError".split())
+               "any all divmod super property classmethod ValueError TypeError".split())
 METHODS = set("append clear copy count endswith extend find get index insert isalnum isalpha isdigit islower isspace "
               "isupper items join keys ljust lower lstrip partition pop remove replace reverse rfind rjust rpartition "
               "rsplit rstrip setdefault split splitlines startswith strip update upper values zfill bit_length".split())
@@ -77,7 +77,8 @@ class Language(unittest.TestCase):
             self.assertLessEqual(node.end_lineno - node.lineno + 1, 40, "L10 " + at)
 
     def test_imports(self):
-        defined = {name[:-3]: {node.name for node in tree.body if isinstance(node, (ast.FunctionDef, ast.ClassDef))}
+        defined = {name[:-3]: {node.name for node in tree.body if isinstance(node, (ast.FunctionDef, ast.ClassDef))} | {
+            target.id for node in tree.body if isinstance(node, ast.Assign) for target in node.targets}
                    for name, tree in self.trees.items()}
         edges = {}
         for at, node in self.nodes(ast.ImportFrom):
@@ -103,7 +104,10 @@ class Language(unittest.TestCase):
                 elif isinstance(node, (ast.FunctionDef, ast.ClassDef)):
                     bound.append(node.name)
                 elif isinstance(node, ast.Assign):
-                    self.assertIsInstance(ast.literal_eval(node.value), (int, str, tuple), "L3 " + name)
+                    value = ast.literal_eval(node.value)
+                    self.assertIsInstance(value, (int, str, tuple, dict), "L3 " + name)
+                    if isinstance(value, dict):
+                        self.assertTrue(all(isinstance(one, tuple) for one in value.values()), "L15 " + name)
                     bound.append(node.targets[0].id)
                 else:
                     self.assertTrue(isinstance(node, ast.Expr) and isinstance(node.value.value, str), "L3 " + name)
@@ -146,7 +150,9 @@ class Language(unittest.TestCase):
             self.assertFalse(node.finalbody or node.orelse, "L6 " + at)
             for handler in node.handlers:
                 self.assertIn(handler.type.id, self.classes, "L19 " + at)
-                self.assertIsNone(handler.name, "L19 " + at)
+                for part in ast.walk(handler):
+                    if isinstance(part, ast.Name) and part.id == handler.name:
+                        self.assertIsInstance(part.parent, ast.Attribute, "L19 " + at)
         for at, node in self.nodes(ast.Constant):
             self.assertNotIsInstance(node.value, (float, complex, bytes), "L7 " + at)
         for at, node in self.nodes(ast.Compare):
@@ -194,7 +200,7 @@ class Language(unittest.TestCase):
         for at, node in self.nodes(ast.FunctionDef):
             self.assertIsNone(node.returns, "L21 " + at)
             for decorator in node.decorator_list:
-                self.assertEqual(getattr(decorator, "id", ""), "property", "L4 " + at)
+                self.assertIn(getattr(decorator, "id", ""), ("property", "classmethod"), "L4 " + at)
             for part in node.args.args + node.args.kwonlyargs:
                 self.assertIsNone(part.annotation, "L21 " + at)
             for value in node.args.defaults + [value for value in node.args.kw_defaults if value]:
@@ -220,6 +226,38 @@ class Language(unittest.TestCase):
             self.assertFalse(stored & set(names), "L18 " + at)
             for part in node.body:
                 self.assertIsInstance(part, (ast.FunctionDef, ast.Expr), "L5 " + at)
+
+    def test_no_attribute_has_the_name_of_a_method(self):
+        self.assertEqual(self.methods & self.assigned, set(), "L18")
+
+    def test_tables_are_read_by_an_index_or_asked_alone(self):
+        for name, tree in self.trees.items():
+            tables = {node.targets[0].id for node in tree.body if isinstance(node, ast.Assign) and isinstance(
+                node.value, ast.Dict)}
+            tables |= {alias.name for node in tree.body if isinstance(node, ast.ImportFrom) for alias in node.names
+                       if alias.name.isupper()}
+            for node in ast.walk(tree):
+                if isinstance(node, ast.Name) and node.id in tables and isinstance(node.ctx, ast.Load):
+                    index = isinstance(node.parent, ast.Subscript) and isinstance(node.parent.ctx, ast.Load)
+                    asked = isinstance(node.parent, ast.Compare) and isinstance(node.parent.ops[0], (ast.In, ast.NotIn))
+                    self.assertTrue(index or asked, f"L15 {name}:{node.lineno}")
+
+    def test_stars_in_calls(self):
+        for at, node in self.nodes(ast.Call):
+            for part in node.args:
+                if isinstance(part, ast.Starred):
+                    plain = isinstance(part.value, ast.Name) or isinstance(part.value, ast.Attribute) and isinstance(
+                        part.value.value, ast.Name)
+                    self.assertTrue(plain, "L7 " + at)
+
+    def test_generators_are_iterated_at_once(self):
+        generators = {node.name for _, node in self.nodes(ast.FunctionDef) if any(
+            isinstance(part, (ast.Yield, ast.YieldFrom)) for part in ast.walk(node))}
+        for at, node in self.nodes(ast.Call):
+            if (getattr(node.func, "id", "") or getattr(node.func, "attr", "")) in generators:
+                loop = isinstance(node.parent, (ast.For, ast.comprehension)) and node.parent.iter is node
+                call = isinstance(node.parent, ast.Call) and getattr(node.parent.func, "id", "") in AT_ONCE
+                self.assertTrue(loop or call, "L23 " + at)
 
     def test_generators(self):
         generators = [node.name for _, node in self.nodes(ast.FunctionDef) if any(
