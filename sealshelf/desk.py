@@ -49,7 +49,7 @@ class Desk:
         if word == "new":
             self._vault = Vault()
             return "ok"
-        return asked_of_record(self._vault, word, *parts) if ASKED[word] else asked(self._vault, word)
+        return asked_about(self._vault, word, *parts) if ASKED[word] else asked(self._vault, word)
 
 
 def asked(vault, word):
@@ -75,7 +75,7 @@ def asked(vault, word):
     return " / ".join(vault.table()) if vault.records() else "-"
 
 
-def asked_of_record(vault, word, first, way=None):
+def asked_about(vault, word, first, way=None):
     """What a Vault tells at a command of several words."""
     if word == "readers":
         return spaced([names_text(readers) for readers in vault[first]])

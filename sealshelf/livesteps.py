@@ -47,9 +47,7 @@ def is_side(thing):
 
 def is_entry(thing):
     """Whether it is an entry of a plan by its kind."""
-    if not is_pair(thing) or not isinstance(thing[0], str):
-        return False
-    return thing[0] in ("on", "new") and is_tuple_of(is_number, thing[1])
+    return is_pair(thing) and thing[0] in ("on", "new") and is_tuple_of(is_number, thing[1])
 
 
 def behind(vault, step):

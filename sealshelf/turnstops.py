@@ -20,9 +20,9 @@ def stops_of(vault, goals, plan):
     """The vaults behind each box of a turn."""
     check_turn(vault, goals, plan)
     turn = turn_by(vault, goals, plan)
-    boxes, first = boxes_of(turn, plan)
+    boxes, early = boxes_of(turn, plan)
     for many in range(1, len(boxes) + 1):
-        yield vault_behind(turn, boxes[:many], many >= first, many == len(boxes))
+        yield vault_behind(turn, boxes[:many], many >= early, many == len(boxes))
 
 
 def check_turn(vault, goals, plan):
@@ -37,7 +37,7 @@ def check_turn(vault, goals, plan):
 
 
 def boxes_of(turn, plan):
-    """The tuple of the boxes in the order in which they are put, and behind how many readers change first."""
+    """The tuple of the boxes in the order in which they are put, and how many are of the first two sorts."""
     early = []
     late = []
     for k in turn.order:
@@ -48,7 +48,7 @@ def boxes_of(turn, plan):
             row = late if any([name in coming for name in reaching[key]]) else early
             row.append((turn.lead[k], (key,)))
     begin = early + turn.text_boxes()
-    return (tuple(begin + late), max(1, len(begin)))
+    return (tuple(begin + late), len(begin))
 
 
 def vault_behind(turn, boxes, reading, done):

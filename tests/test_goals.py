@@ -63,10 +63,12 @@ class Goals(unittest.TestCase):
     def test_any_value(self):
         for value in WRONG + (deep(40), [], {}, tuple(range(5000))):
             self.assertIs(are_goals(VAULT, value), value == () and type(value) is tuple, repr(value))
-        for vault in (VAULT, TWO_SIDES):
-            for goals in (BOTH, ALL):
-                for value in variants(goals):
-                    self.assertIs(are_goals(vault, value), naiveturns.are_goals(vault, value), repr(value))
+        two = begun(VAULT, "plan", ("cy",), ("ann",))
+        cases = [(vault, goals) for vault in (VAULT, TWO_SIDES) for goals in (BOTH, ALL)]
+        for vault, goals in cases + [(two, (PAIR, ("plan", 1, ("ann", "cy"))))]:
+            self.assertIs(are_goals(vault, goals), True)
+            for value in variants(goals):
+                self.assertIs(are_goals(vault, value), naiveturns.are_goals(vault, value), repr(value))
 
     def test_may_stay(self):
         self.assertEqual([may_stay(VAULT, PAIR), may_stay(VAULT, TRIO), may_stay(FOUNDED, PAIR)], [True, True, False])

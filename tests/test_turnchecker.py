@@ -148,6 +148,24 @@ class TurnChecker(unittest.TestCase):
         self.raises("few", 0, vault, goals, (more, wide))
         self.assertEqual(lets_turn(vault, goals, (plan, wide)), 1)
 
+    def test_endless_branches(self):
+        # As above, and dee comes to plan, whom two own keys reach.
+        sides = (("memo", ((("bob", "cy"), 2),), ()), ("plan", ((("bob", "cy"), 3),), ()))
+        hands = tuple(("hand", name, key) for name, key in (("bob", 0), ("cy", 1), ("bob", 2), ("cy", 2), ("cy", 3), ("dee", 4),
+                                                            ("dee", 5)))
+        vault = (6, (("bob", 0), ("cy", 1), ("dee", 5)), sides, hands + (("leak", 0),))
+        goals = (("memo", 0, ("bob", "cy", "dee")), ("plan", 0, ("bob", "cy", "dee")))
+        plan, choices = turn_paper(vault, goals)
+        self.assertEqual(lets_turn(vault, goals, (plan, choices)), turn_error(vault, goals, (plan, choices)))
+        bob = ("bob", ())
+        for memo, tree, word in ((("dee", ((4, ()), (5, ()))), ("dee", ((4, bob), (5, bob))), None),
+                                 ((), ("dee", ((4, bob), (5, bob))), None), ((), ("dee", ((4, bob), (5, ()))), "few"),
+                                 ((), ("dee", ((4, ()), (5, ()))), "few"), (("dee", ((4, ()), (5, ()))), ("dee", ((4, ()), (5, bob))), None)):
+            paper = (plan, choices[:3] + ((("on", "on"), (memo, tree)),))
+            got = told(lets_turn, vault, goals, paper)
+            self.assertEqual(got, 2 if word is None else ("InvalidPaper", word, 3), repr(tree))
+            self.agrees(vault, goals, paper)
+
     def test_papers_of_drawn_vaults(self):
         words = set()
         many = 0
